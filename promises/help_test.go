@@ -23,19 +23,19 @@ func is[T comparable](t *testing.T, what string, got, want T) {
 func list[T comparable](t *testing.T, what string, got, want []T) {
 	t.Helper()
 	if !slices.Equal(got, want) {
-		t.Errorf("%s: %v, and not %v", what, short(got), short(want))
+		t.Errorf("%s: %v, and not %v", what, few(got), few(want))
 	}
 }
 
-// short keeps a failed test's text readable.
-func short[T any](l []T) []T { return l[:min(len(l), 64)] }
+// few keeps a failed test's text readable.
+func few[T any](l []T) []T { return l[:min(len(l), 64)] }
 
 // fails: the error, and beside it nothing (R2).
 func fails[T comparable](t *testing.T, what string, got []T, e, want api.Errno) {
 	t.Helper()
 	is(t, what, e, want)
 	if e != api.OK && len(got) > 0 {
-		t.Errorf("%s: %v beside error %d", what, short(got), e)
+		t.Errorf("%s: %v beside error %d", what, few(got), e)
 	}
 }
 

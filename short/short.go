@@ -1,0 +1,30 @@
+// Package short reads short bytes (layer 4) off a cursor (layer 3): what the codecs have in common.
+package short
+
+import (
+	"corduroy/cursor"
+	"corduroy/trap"
+	"corduroy/varint"
+)
+
+// most is how many short bytes a number has at the most.
+const most = 10
+
+// Next is the next number of short bytes; it throws layer 4's Get's error of what is left.
+func Next(c *cursor.Cursor) uint64 {
+	var room [most]byte
+	v, _, e := varint.Get(digits(c, room[:0]))
+	return trap.Must(v, e)
+}
+
+// digits are as many bytes as Get looks at: to Peek at all that are left would copy them for each number.
+func digits(c *cursor.Cursor, b []byte) []byte {
+	for len(b) < most && c.Left() > 0 {
+		digit := c.U8()
+		b = append(b, digit)
+		if digit < 128 {
+			break
+		}
+	}
+	return b
+}
