@@ -23,3 +23,10 @@ func TestShortNext(t *testing.T) {
 		thrown(t, "Next", func() { short.Next(cursor.New(x.b)) }, x.e)
 	}
 }
+
+func TestShortZigs(t *testing.T) {
+	list(t, "Zigs", short.Zigs([]int64{0, -1, 1, least}), []uint64{0, 1, 2, top})
+	list(t, "Zags", short.Zags([]uint64{0, 1, 2, top}), []int64{0, -1, 1, least})
+	apart(t, "Zigs", []int64{1, 2}, short.Zigs)
+	apart(t, "Zags", []uint64{1, 2}, short.Zags)
+}

@@ -1,4 +1,4 @@
-// Package short reads short bytes (layer 4) off a cursor (layer 3): what the codecs have in common.
+// Package short has what several codecs have in common: short bytes (layer 4) off a cursor (layer 3), and rows of zigzags.
 package short
 
 import (
@@ -15,6 +15,24 @@ func Next(c *cursor.Cursor) uint64 {
 	var room [most]byte
 	v, _, e := varint.Get(digits(c, room[:0]))
 	return trap.Must(v, e)
+}
+
+// Zigs are numbers' zigzags.
+func Zigs(l []int64) []uint64 {
+	zigs := make([]uint64, len(l))
+	for i, v := range l {
+		zigs[i] = varint.Zig(v)
+	}
+	return zigs
+}
+
+// Zags are the numbers of zigzags.
+func Zags(zigs []uint64) []int64 {
+	l := make([]int64, len(zigs))
+	for i, z := range zigs {
+		l[i] = varint.Zag(z)
+	}
+	return l
 }
 
 // digits are as many bytes as Get looks at: to Peek at all that are left would copy them for each number.
