@@ -30,3 +30,34 @@ func TestShortZigs(t *testing.T) {
 	apart(t, "Zigs", []int64{1, 2}, short.Zigs)
 	apart(t, "Zags", []uint64{1, 2}, short.Zags)
 }
+
+func TestShortPlaces(t *testing.T) {
+	for _, x := range []struct {
+		b      []byte
+		n      int
+		places []int
+		e      api.Errno
+	}{
+		{[]byte{0}, 0, nil, api.OK},
+		{[]byte{3, 0, 0, 1}, 4, []int{0, 1, 3}, api.OK},
+		{[]byte{3, 0, 0, 1}, 3, []int{0, 1}, api.ErrRange},
+		{[]byte{3, 0, 0}, 3, []int{0, 1}, api.ErrShort},
+		{[]byte{4, 0, 0}, 3, nil, api.ErrCount},
+		{[]byte{128, 0}, 3, nil, api.ErrOver},
+		{[]byte{1, 128, 0}, 3, nil, api.ErrOver},
+	} {
+		var places []int
+		thrown(t, "Places", func() {
+			for place := range short.Places(cursor.New(x.b), x.n) {
+				places = append(places, place)
+			}
+		}, x.e)
+		list(t, "Places", places, x.places)
+	}
+	c := cursor.New([]byte{2, 1, 9, 0, 8})
+	for place := range short.Places(c, 3) {
+		is(t, "the first place", place, 1)
+		break
+	}
+	is(t, "Places stops", c.At(), 2)
+}

@@ -1,7 +1,10 @@
-// Package short has what several codecs have in common: short bytes (layer 4) off a cursor (layer 3), and rows of zigzags.
+// Package short has what several codecs have in common: short bytes (layer 4) off a cursor (layer 3), places written by them, and rows of zigzags.
 package short
 
 import (
+	"iter"
+
+	"corduroy/api"
 	"corduroy/cursor"
 	"corduroy/trap"
 	"corduroy/varint"
@@ -15,6 +18,25 @@ func Next(c *cursor.Cursor) uint64 {
 	var room [most]byte
 	v, _, e := varint.Get(digits(c, room[:0]))
 	return trap.Must(v, e)
+}
+
+// Places is a walk through exceptions' places, below n: how many there are, and of each how many stand between the one ahead and it.
+// What else is written of an exception whoever walks reads off the cursor ahead of the next one.
+func Places(c *cursor.Cursor, n int) iter.Seq[int] {
+	return func(yield func(int) bool) {
+		count := Next(c)
+		trap.Check(count <= uint64(n), api.ErrCount)
+		place := 0
+		for range count {
+			gap := Next(c)
+			trap.Check(gap < uint64(n-place), api.ErrRange)
+			place += int(gap)
+			if !yield(place) {
+				return
+			}
+			place++
+		}
+	}
 }
 
 // Zigs are numbers' zigzags.
