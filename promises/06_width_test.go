@@ -10,8 +10,8 @@ import (
 )
 
 const (
-	least    = math.MinInt64
-	greatest = math.MaxInt64
+	minInt = math.MinInt64
+	maxInt = math.MaxInt64
 )
 
 func signedOf(d *dice, n, wide int) []int64 {
@@ -56,7 +56,7 @@ func TestP6_2_Least(t *testing.T) {
 		l  []int64
 		v  int64
 		is bool
-	}{{nil, 0, false}, {[]int64{5}, 5, true}, {[]int64{5, -7, 3}, -7, true}, {[]int64{greatest, least}, least, true}, {[]int64{greatest}, greatest, true}, {[]int64{3, 4, 9, 2}, 2, true}, {[]int64{1, 4}, 1, true}} {
+	}{{nil, 0, false}, {[]int64{5}, 5, true}, {[]int64{5, -7, 3}, -7, true}, {[]int64{maxInt, minInt}, minInt, true}, {[]int64{maxInt}, maxInt, true}, {[]int64{3, 4, 9, 2}, 2, true}, {[]int64{1, 4}, 1, true}} {
 		v, ok := width.Least(x.l...)
 		is(t, fmt.Sprint("Least of ", x.l), v, x.v)
 		is(t, fmt.Sprint("Least of ", x.l), ok, x.is)
@@ -66,12 +66,12 @@ func TestP6_2_Least(t *testing.T) {
 func TestP6_2_Offsets(t *testing.T) {
 	list(t, "Offsets", width.Offsets(-1, -1, 3), []uint64{0, 4})
 	list(t, "Offsets of none", width.Offsets(5), nil)
-	list(t, "Offsets go round", width.Offsets(least, greatest, least, 0), []uint64{top, 0, 1 << 63})
-	list(t, "Offsets go round", width.Offsets(1, 0, least), []uint64{top, 1<<63 - 1})
+	list(t, "Offsets go round", width.Offsets(minInt, maxInt, minInt, 0), []uint64{top, 0, 1 << 63})
+	list(t, "Offsets go round", width.Offsets(1, 0, minInt), []uint64{top, 1<<63 - 1})
 	list(t, "Back", width.Back(-1, 0, 4), []int64{-1, 3})
 	list(t, "Back of none", width.Back(5), nil)
-	list(t, "Back goes round", width.Back(least, top, 0, 1<<63), []int64{greatest, least, 0})
-	list(t, "Back goes round", width.Back(greatest, 1), []int64{least})
+	list(t, "Back goes round", width.Back(minInt, top, 0, 1<<63), []int64{maxInt, minInt, 0})
+	list(t, "Back goes round", width.Back(maxInt, 1), []int64{minInt})
 	apart(t, "Offsets", []int64{1, 2, 3}, func(l []int64) []uint64 { return width.Offsets(0, l...) })
 	apart(t, "Back", []uint64{1, 2, 3}, func(l []uint64) []int64 { return width.Back(0, l...) })
 }
@@ -80,10 +80,10 @@ func TestP6_2_Deltas(t *testing.T) {
 	list(t, "Deltas", width.Deltas(5, 7, 6), []int64{2, -1})
 	list(t, "Deltas of none", width.Deltas(), nil)
 	list(t, "Deltas of one", width.Deltas(5), nil)
-	list(t, "Deltas go round", width.Deltas(greatest, least, greatest), []int64{1, -1})
+	list(t, "Deltas go round", width.Deltas(maxInt, minInt, maxInt), []int64{1, -1})
 	list(t, "Sums", width.Sums(5, 2, -1), []int64{5, 7, 6})
 	list(t, "Sums of none", width.Sums(5), []int64{5})
-	list(t, "Sums go round", width.Sums(greatest, 1, -1), []int64{greatest, least, greatest})
+	list(t, "Sums go round", width.Sums(maxInt, 1, -1), []int64{maxInt, minInt, maxInt})
 	apart(t, "Deltas", []int64{1, 2, 3}, func(l []int64) []int64 { return width.Deltas(l...) })
 	apart(t, "Sums", []int64{1, 2, 3}, func(l []int64) []int64 { return width.Sums(7, l...) })
 }

@@ -25,7 +25,7 @@ func blocks() [][]int64 {
 
 func shapes(d *dice, n int) [][]int64 {
 	out := [][]int64{signedOf(d, n, 64), signedOf(d, n, 1+d.below(63)), signedOf(d, n, d.below(9))}
-	for _, v := range []int64{0, -1, 1, 3, -7, least, greatest, int64(d.next())} {
+	for _, v := range []int64{0, -1, 1, 3, -7, minInt, maxInt, int64(d.next())} {
 		out = append(out, slices.Repeat([]int64{v}, n))
 	}
 	return append(out, steps(d, n, 0), steps(d, n, 3), steps(d, n, 40), runs(d, n, 1), runs(d, n, 20), near(d, n, 4), near(d, n, 30), ones(d, n))

@@ -28,8 +28,8 @@ func TestP8_2_Decode(t *testing.T) {
 	nine := bytes.Repeat([]byte{255}, 9)
 	decodes(t, "zvar", zvar.Zvar{}.Decode, []decoded{
 		{[]byte{0, 1, 128, 1}, 3, []int64{0, -1, 64}, api.OK},
-		{append(bytes.Clone(nine), 1), 1, []int64{least}, api.OK},
-		{append(bytes.Clone(nine), 1, 2), 2, []int64{least, 1}, api.OK},
+		{append(bytes.Clone(nine), 1), 1, []int64{minInt}, api.OK},
+		{append(bytes.Clone(nine), 1, 2), 2, []int64{minInt, 1}, api.OK},
 		{nil, 1, nil, api.ErrShort},
 		{[]byte{0, 1, 128}, 3, nil, api.ErrShort},
 		{[]byte{0, 1}, 3, nil, api.ErrShort},

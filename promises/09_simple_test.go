@@ -58,7 +58,7 @@ func TestP9_1_Takes(t *testing.T) {
 	for _, x := range []struct {
 		v  int64
 		is bool
-	}{{0, true}, {1<<59 - 1, true}, {-1 << 59, true}, {1 << 59, false}, {-1<<59 - 1, false}, {greatest, false}, {least, false}} {
+	}{{0, true}, {1<<59 - 1, true}, {-1 << 59, true}, {1 << 59, false}, {-1<<59 - 1, false}, {maxInt, false}, {minInt, false}} {
 		is(t, "Takes", simple.Simple{}.Takes([]int64{x.v}), x.is)
 		is(t, "Takes", simple.Simple{}.Takes([]int64{0, x.v, 0}), x.is)
 		is(t, "Size", simple.Simple{}.Size([]int64{x.v}) == 8, x.is)
@@ -68,7 +68,7 @@ func TestP9_1_Takes(t *testing.T) {
 			fails(t, "Encode", b, e, api.ErrCodec)
 		}
 	}
-	_, e := simple.Simple{}.Encode(slices.Repeat([]int64{greatest}, 1025))
+	_, e := simple.Simple{}.Encode(slices.Repeat([]int64{maxInt}, 1025))
 	is(t, "ErrCount is named first", e, api.ErrCount)
 }
 

@@ -116,7 +116,7 @@ func TestP10_2_Decode(t *testing.T) {
 		{[]byte{3, 2, 6, 2, 4, 2, 2}, 3, []int64{3, 2, 1}, api.OK},
 		{[]byte{3, 2, 6, 2, 4, 4, 2}, 3, nil, api.ErrCount},
 		{[]byte{0, 2}, 1, []int64{0}, api.OK},
-		{slices.Concat([]byte{64, 2}, bytes.Repeat([]byte{255}, 8)), 1, []int64{least}, api.OK},
+		{slices.Concat([]byte{64, 2}, bytes.Repeat([]byte{255}, 8)), 1, []int64{minInt}, api.OK},
 		{slices.Concat([]byte{63, 2}, bytes.Repeat([]byte{255}, 8)), 1, nil, api.ErrRange},
 		{slices.Concat([]byte{63, 2}, bytes.Repeat([]byte{255}, 7), []byte{127}), 1, []int64{-1 << 62}, api.OK},
 		{slices.Concat([]byte{64, 2}, bytes.Repeat([]byte{255}, 7)), 1, nil, api.ErrShort},

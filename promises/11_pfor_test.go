@@ -60,7 +60,7 @@ func TestP11_1_Pfor(t *testing.T) {
 		{[]int64{-1, -1}, pforHead(top, 0, 0)},
 		{[]int64{5, 4, 300}, pforHead(4, 2, 1, 2, 74, 1)},
 		{[]int64{0, 1}, pforHead(0, 1, 0, 2)},
-		{[]int64{least, greatest}, slowPforBy([]int64{least, greatest}, 0)},
+		{[]int64{minInt, maxInt}, slowPforBy([]int64{minInt, maxInt}, 0)},
 	} {
 		b, e := pfor.Pfor{}.Encode(x.l)
 		is(t, "Encode", e, api.OK)
@@ -121,7 +121,7 @@ func TestP11_2_Decode(t *testing.T) {
 		{pforHead(7, 0, 1, 0, 0), 1, nil, api.ErrRange},
 		{pforHead(7, 64, 1, 0, 0), 1, nil, api.ErrRange},
 		{pforHead(7, 64, 1, 0, 1), 1, nil, api.ErrRange},
-		{pforHead(0, 63, 1, 0, 1, 0, 0, 0, 0, 0, 0, 0, 0), 1, []int64{least}, api.OK},
+		{pforHead(0, 63, 1, 0, 1, 0, 0, 0, 0, 0, 0, 0, 0), 1, []int64{minInt}, api.OK},
 		{pforHead(0, 63, 1, 0, 2, 0, 0, 0, 0, 0, 0, 0, 0), 1, nil, api.ErrRange},
 		{pforHead(0, 62, 1, 0, 3, 0, 0, 0, 0, 0, 0, 0, 0), 1, []int64{-1 << 62}, api.OK},
 		{pforHead(0, 62, 1, 0, 4, 0, 0, 0, 0, 0, 0, 0, 0), 1, nil, api.ErrRange},
@@ -136,7 +136,7 @@ func TestP11_2_Decode(t *testing.T) {
 		{pforHead(7, 3, 0, 213, 3, 0), 3, nil, api.ErrLong},
 		{pforHead(7, 3, 0, 213, 1, 0), 3, nil, api.ErrLong},
 		{pforHead(7, 0, 0, 0), 3, nil, api.ErrLong},
-		{pforHead(0, 64, 0, 1, 0, 0, 0, 0, 0, 0, 128), 1, []int64{least + 1}, api.OK},
+		{pforHead(0, 64, 0, 1, 0, 0, 0, 0, 0, 0, 128), 1, []int64{minInt + 1}, api.OK},
 	})
 }
 
@@ -153,6 +153,6 @@ func TestP11_3_OtherForms(t *testing.T) {
 	}
 	decodes(t, "pfor", pfor.Pfor{}.Decode, []decoded{
 		{pforHead(3, 3, 0, 4), 1, []int64{7}, api.OK},
-		{pforHead(greatest, 1, 0, 1), 1, []int64{least}, api.OK},
+		{pforHead(maxInt, 1, 0, 1), 1, []int64{minInt}, api.OK},
 	})
 }

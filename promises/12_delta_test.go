@@ -47,7 +47,7 @@ func TestP12_1_Delta(t *testing.T) {
 		{[]int64{5, 7, 9}, []byte{10, 4, 0}},
 		{[]int64{0, 1, 3}, []byte{0, 2, 1, 2}},
 		{[]int64{5}, []byte{10}},
-		{[]int64{greatest, least, greatest}, append(slowShort(top-1), 1, 2, 2)},
+		{[]int64{maxInt, minInt, maxInt}, append(slowShort(top-1), 1, 2, 2)},
 		{ramp[:33], []byte{0, 6, 0}},
 		{ramp[:34], []byte{0, 6, 0, 0}},
 		{ramp[:129], []byte{0, 6, 0, 0, 0, 0}},

@@ -25,8 +25,8 @@ func TestShortNext(t *testing.T) {
 }
 
 func TestShortZigs(t *testing.T) {
-	list(t, "Zigs", short.Zigs([]int64{0, -1, 1, least}), []uint64{0, 1, 2, top})
-	list(t, "Zags", short.Zags([]uint64{0, 1, 2, top}), []int64{0, -1, 1, least})
+	list(t, "Zigs", short.Zigs([]int64{0, -1, 1, minInt}), []uint64{0, 1, 2, top})
+	list(t, "Zags", short.Zags([]uint64{0, 1, 2, top}), []int64{0, -1, 1, minInt})
 	apart(t, "Zigs", []int64{1, 2}, short.Zigs)
 	apart(t, "Zags", []uint64{1, 2}, short.Zags)
 }
