@@ -34,9 +34,10 @@ func shapes(d *dice, n int) [][]int64 {
 // steps are numbers that follow one another.
 func steps(d *dice, n, wide int) []int64 {
 	l := signedOf(d, n, wide)
-	l[0] = int64(d.next())
-	for i := 1; i < n; i++ {
-		l[i] += l[i-1] + 1000
+	at := int64(d.next())
+	for i := range l {
+		at += l[i] + 1000
+		l[i] = at
 	}
 	return l
 }

@@ -9,7 +9,7 @@ import (
 	"corduroy/trap"
 )
 
-type whole interface {
+type number interface {
 	~uint8 | ~uint16 | ~uint32 | ~uint64 | ~int | ~int64
 }
 
@@ -74,7 +74,7 @@ func (d *dice) bytes(n int) []byte {
 }
 
 // turn changes all of a list, also what lies behind its end.
-func turn[T whole](l []T) {
+func turn[T number](l []T) {
 	l = l[:cap(l)]
 	for i := range l {
 		l[i] = ^l[i]
@@ -82,7 +82,7 @@ func turn[T whole](l []T) {
 }
 
 // apart tests R4 of a call that makes a list of a list: neither changed nor kept, nothing shared.
-func apart[T, U whole](t *testing.T, what string, in []T, call func([]T) []U) {
+func apart[T, U number](t *testing.T, what string, in []T, call func([]T) []U) {
 	t.Helper()
 	room := slices.Concat(in, make([]T, 40))
 	given := room[:len(in)]
@@ -100,7 +100,7 @@ func apart[T, U whole](t *testing.T, what string, in []T, call func([]T) []U) {
 	list(t, what+": what was handed in shares nothing", room[:len(in)], turned(in))
 }
 
-func turned[T whole](l []T) []T {
+func turned[T number](l []T) []T {
 	l = slices.Clone(l)
 	turn(l)
 	return l
