@@ -3,8 +3,12 @@ package whole
 
 import (
 	"corduroy/api"
+	"corduroy/cursor"
 	"corduroy/trap"
 )
+
+// mark is how many bytes tell the end from a frame: of the end they are 0.
+const mark = 4
 
 // Head is what is wrong with what bytes begin with, where a head is to be.
 func Head(b, head []byte) api.Errno {
@@ -18,6 +22,9 @@ func Head(b, head []byte) api.Errno {
 	}
 	return api.OK
 }
+
+// AtEnd: do bytes begin with the end, and not with a frame? It throws ErrShort, if they are too few to tell.
+func AtEnd(b []byte) bool { return cursor.New(b[:min(mark, len(b))]).U32() == 0 }
 
 // Read is all that a column's frames have; next reads a frame, or the end, as layer 16's Next does.
 func Read[T any](b, head []byte, next func(b []byte, full bool, n int) ([]T, int, bool, api.Errno)) ([]T, api.Errno) {
