@@ -83,6 +83,20 @@ func TestP11_1_Shortest(t *testing.T) {
 	}
 }
 
+// TestP11_1_ManyExceptions: where the number of exceptions itself needs one more byte.
+func TestP11_1_ManyExceptions(t *testing.T) {
+	for _, many := range []int{126, 127, 128, 129} {
+		l := make([]int64, 1024)
+		for i := range many {
+			l[5*i] = 1 << 40
+		}
+		b, _ := pfor.Pfor{}.Encode(l)
+		list(t, "Encode", b, slowPfor(l))
+		is(t, "how many exceptions", int(b[9]&127)+int(b[9]>>7)*(int(b[10])*128), many)
+		is(t, "Size", pfor.Pfor{}.Size(l), len(b))
+	}
+}
+
 func TestP11_2_Decode(t *testing.T) {
 	over := append(bytes.Repeat([]byte{255}, 9), 2)
 	decodes(t, "pfor", pfor.Pfor{}.Decode, []decoded{
