@@ -68,6 +68,34 @@ func TestP5_1_HashKeepsNothing(t *testing.T) {
 	is(t, "Sum", h.Sum(), 0xcbf43926)
 }
 
+// The table and the function are two ways to one sum.
+func TestP5_1_BothWays(t *testing.T) {
+	one := func(b []byte) {
+		h := crc.New()
+		h.Write(b)
+		want := crc32.ChecksumIEEE(b)
+		is(t, "Sum", crc.Sum(b), want)
+		is(t, "what is written", h.Sum(), want)
+		list(t, "Put", crc.Put(b), cursor.Put32(b, want))
+		is(t, "Fits", crc.Fits(cursor.Put32(b, want)), true)
+		is(t, "Fits by another sum", crc.Fits(cursor.Put32(b, want+1)), false)
+	}
+	for i := range 256 {
+		one([]byte{byte(i)})
+		one([]byte{byte(i), 0, 0, 0, 0, byte(i)})
+	}
+	d := dice(9)
+	for n := range 300 {
+		one(d.bytes(n))
+		h := crc.New()
+		b := d.bytes(n)
+		k := d.below(n + 1)
+		h.Write(b[:k], nil)
+		h.Write(b[k:])
+		is(t, "what is written in parts", h.Sum(), crc.Sum(b))
+	}
+}
+
 func TestP5_2_PutAndFits(t *testing.T) {
 	list(t, "Put", crc.Put([]byte("123456789")), append([]byte("123456789"), 0x26, 0x39, 0xf4, 0xcb))
 	list(t, "Put of nothing", crc.Put(nil), []byte{0, 0, 0, 0})
